@@ -1,0 +1,1 @@
+"""Equations between measures, and all their solutions told in one form."""
