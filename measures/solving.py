@@ -5,7 +5,7 @@ name and for each base, with its power in unknown 0, 1, ... So the rows of the
 names are a staircase, and those of the bases are reduced by it.
 """
 
-from measures.staircase import combined, common_divisor, dot, reduced, staircase, transposed
+from measures.staircase import combined, common_divisor, divided, dot, flat, reduced, staircase, transposed
 from measures.terms import BASE, UNKNOWN, summed_powers
 
 NEVER = 0
@@ -85,10 +85,7 @@ def with_equation(system, left, right):
 
 def told(name_rows, base_rows, count):
     """How many names there are; then for each of count unknowns or terms its powers of the names and the bases."""
-    numbers = [len(name_rows)]
-    for row in transposed(name_rows + base_rows, count):
-        numbers.extend(row)
-    return numbers
+    return [len(name_rows)] + flat(transposed(name_rows + base_rows, count))
 
 
 def told_solution(system):
@@ -104,3 +101,21 @@ def told_normal_form(system, terms):
     stairs = staircase(columns[:name_count])
     base_rows = [reduced(column, stairs) for column in columns[name_count:]]
     return told(stairs, base_rows, len(terms))
+
+
+def choice_behind(system, numbers, width):
+    """A row of width numbers for each name, from which the filling comes; None if it doesn't solve the system.
+
+    numbers are the filling's rows, width numbers for each unknown, one behind another.
+    """
+    filling = [numbers[unknown * width:(unknown + 1) * width] for unknown in range(system.unknown_count)]
+    multiples = []
+    for place, column in enumerate(transposed(filling, width)):
+        rest = column
+        if place < system.base_count:
+            rest = combined(1, column, -1, system.base_rows[place])
+        parts = divided(rest, system.name_rows)
+        if any(parts[1]):
+            return None
+        multiples.append(parts[0])
+    return transposed(multiples, len(system.name_rows))

@@ -22,6 +22,14 @@ def transposed(rows, width):
     return [[row[place] for row in rows] for place in range(width)]
 
 
+def flat(rows):
+    """The numbers of all rows, one row behind another."""
+    numbers = []
+    for row in rows:
+        numbers.extend(row)
+    return numbers
+
+
 def home(row):
     """The place of the first number that isn't 0; the row's length if there's none."""
     for place, number in enumerate(row):
@@ -76,13 +84,23 @@ def add_row(stairs, row):
         stairs[place] = rest if rest[place] > 0 else [-number for number in rest]
 
 
-def reduced(row, stairs):
-    """The row less multiples of the stairs, so that it is in range at each one's home."""
+def divided(row, stairs):
+    """How often each of the stairs is taken from the row so that it's in range at each one's home; what's left."""
+    multiples = []
     rest = row
     for stair in stairs:
         place = home(stair)
-        rest = combined(1, rest, -(rest[place] // stair[place]), stair)
-    return rest
+        times = rest[place] // stair[place]
+        # Most rows are in range already: passing them over saves most of the work.
+        if times != 0:
+            rest = combined(1, rest, -times, stair)
+        multiples.append(times)
+    return (multiples, rest)
+
+
+def reduced(row, stairs):
+    """The row less multiples of the stairs, so that it is in range at each one's home."""
+    return divided(row, stairs)[1]
 
 
 def settle(stairs):

@@ -50,9 +50,14 @@ def words(numbers):
     return " ".join(str(number) for number in numbers)
 
 
+def call_text(call, numbers, lists):
+    """A call in the document's own writing."""
+    return ";".join([words([call] + list(numbers))] + [words(row) for row in lists])
+
+
 def two_terms(call, left, right):
-    """A call of equate or same, as text."""
-    return f"{call};{words(left)};{words(right)}"
+    """A call of equate, same or blame, as text."""
+    return call_text(call, [], [left, right])
 
 
 def split_rows(answer, base_count, count):

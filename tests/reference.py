@@ -6,6 +6,64 @@ An equation is a pair (powers of the unknowns, powers of the bases), each left l
 from fractions import Fraction
 
 
+def is_good(term, base_count, unknown_count):
+    if len(term) % 3 != 0 or len(term) > 72:
+        return False
+    counts = {0: base_count, 1: unknown_count}
+    return all(0 <= term[at + 1] < counts.get(term[at], 0) and -99 <= term[at + 2] <= 99
+               for at in range(0, len(term), 3))
+
+
+def read_terms(numbers):
+    """The terms that a list tells, None if it can't be read or tells more than 16."""
+    terms = []
+    rest = list(numbers)
+    while rest:
+        f = rest.pop(0)
+        if f < 0 or len(rest) < 3 * f:
+            return None
+        terms.append(rest[:3 * f])
+        rest = rest[3 * f:]
+    return terms if len(terms) <= 16 else None
+
+
+def value(term, filling, width):
+    """The value of a term under a filling, as the document's words tell it."""
+    row = [0] * width
+    for at in range(0, len(term), 3):
+        sort, number, power = term[at:at + 3]
+        if sort == 0:
+            row[number] += power
+        else:
+            row = [sum_so_far + power * other for sum_so_far, other in zip(row, filling[number])]
+    return row
+
+
+def filling_of(choice, told, base_count, e):
+    """The filling that comes from a choice by the told solution, as (a) tells it."""
+    r, rows = told
+    filling = []
+    for row in rows:
+        filled = row[r:] + [0] * e
+        for power, chosen in zip(row, choice):
+            filled = [number + power * other for number, other in zip(filled, chosen)]
+        filling.append(filled)
+    return filling
+
+
+def choice_of(filling, told, base_count, e):
+    """The one choice from which a filling that solves can come: read off at the homes, from the first name on."""
+    r, rows = told
+    choice = []
+    for name in range(r):
+        home = min(u for u in range(len(rows)) if rows[u][name] != 0)
+        rest = [number - other for number, other in zip(filling[home], rows[home][r:] + [0] * e)]
+        for power, chosen in zip(rows[home], choice):
+            rest = [number - power * other for number, other in zip(rest, chosen)]
+        choice.append([number // rows[home][name] for number in rest])
+    return choice
+
+
 def equation_of(left, right, base_count, unknown_count):
     unknowns = [0] * unknown_count
     bases = [0] * base_count
@@ -118,3 +176,26 @@ def normal(kept, terms, base_count, unknown_count):
     r, rows = solve(equations, base_count, count + unknown_count)
     seen = [name for name in range(r) if any(row[name] for row in rows[:count])]
     return len(seen), [[row[name] for name in seen] + row[r:] for row in rows[:count]]
+
+
+def blame(kept, equation, base_count, unknown_count):
+    """Equation after equation left out, from the last to the first, as the document's words tell it."""
+    left = list(range(len(kept)))
+    if solve(kept + [equation], base_count, unknown_count) is not None:
+        return [-6]
+    for place in reversed(range(len(kept))):
+        others = [other for other in left if other != place]
+        if solve([equation] + [kept[other] for other in others], base_count, unknown_count) is None:
+            left = others
+    return [len(left)] + left
+
+
+def root(kept, term, d, base_count, unknown_count):
+    """By one more unknown whose power d is the term: it's there under every filling if nothing else is tied by it."""
+    r, rows = solve(kept, base_count, unknown_count)
+    unknowns, bases = term
+    equations = [(old + [0], old_bases) for old, old_bases in kept] + [(unknowns + [-d], bases)]
+    after = solve(equations, base_count, unknown_count + 1)
+    if after is None or after[0] != r or after[1][:unknown_count] != rows:
+        return [0]
+    return [1] + after[1][-1]
